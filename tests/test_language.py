@@ -1,0 +1,163 @@
+"""The package's files against those rules of the language that can be seen row by row.
+
+Not every rule is asked here, and none more narrowly than it is written.
+"""
+
+import ast
+import builtins
+import pathlib
+import re
+import unittest
+
+PACKAGE = pathlib.Path(__file__).resolve().parent.parent / "trussyard"
+
+# L6 and L7: the forms that may stand, by the names of Python's own syntax tree.
+FORMS = set("""
+Module FunctionDef ClassDef Assign AugAssign AnnAssign If While For Return Break Continue Pass Raise Try ExceptHandler
+Expr Import ImportFrom alias arguments arg keyword Lambda Constant Name Attribute Subscript Slice List Tuple Dict Set
+BinOp UnaryOp BoolOp Compare IfExp Call ListComp comprehension JoinedStr FormattedValue Load Store
+Add Sub Mult FloorDiv Mod Pow BitAnd BitOr BitXor LShift RShift Invert USub UAdd Not And Or
+Eq NotEq Lt LtE Gt GtE Is IsNot In NotIn
+""".split())
+# L8, less what L27 leaves out.
+OWN_NAMES = set("""
+len range enumerate zip min max sum abs sorted reversed int str bool list tuple dict set frozenset isinstance ord repr
+any all divmod Exception ValueError TypeError KeyError IndexError LookupError ZeroDivisionError ArithmeticError
+OverflowError RuntimeError NotImplementedError AttributeError StopIteration object float bytes
+""".split())
+# L25.
+OWN_METHODS = set("""
+append clear copy count endswith extend find get index insert isalnum isalpha isdigit islower isspace isupper items join
+keys ljust lower lstrip partition pop remove replace reverse rfind rjust rpartition rsplit rstrip setdefault split
+splitlines startswith strip update upper values zfill bit_length
+""".split())
+TWO_UNDERSCORES = {"__init__", "__eq__", "__repr__", "__str__", "__len__"}
+# L17.
+WORDS_OUT = re.compile(
+    r"\b(type|typing|typing_extensions|enum|Enum|IntEnum|StrEnum|Flag|IntFlag|Generic|Protocol|ABC|ABCMeta|namedtuple"
+    r"|NamedTuple|TypedDict|TYPE_CHECKING|abstractmethod)\b|dataclass|overload|contextmanager")
+PLAIN_NAME = re.compile(r"[a-zA-Z][a-zA-Z0-9_]*")
+
+
+def package_files():
+    return [path for path in sorted(PACKAGE.rglob("*")) if "__pycache__" not in path.parts and not path.is_dir()]
+
+
+def trees():
+    return [(path, ast.parse(path.read_text(encoding="utf-8"))) for path in package_files()]
+
+
+def nodes():
+    for path, tree in trees():
+        for node in ast.walk(tree):
+            yield f"{path.name}:{getattr(node, 'lineno', 0)}", node
+
+
+def own_methods():
+    return {deed.name for place, node in nodes() if isinstance(node, ast.ClassDef)
+            for deed in node.body if isinstance(deed, ast.FunctionDef)}
+
+
+def bound_names(node):
+    """The names that this node itself binds."""
+    if isinstance(node, (ast.FunctionDef, ast.ClassDef)):
+        return [node.name]
+    if isinstance(node, ast.arg):
+        return [node.arg]
+    if isinstance(node, ast.Name) and isinstance(node.ctx, ast.Store):
+        return [node.id]
+    if isinstance(node, ast.Attribute) and isinstance(node.ctx, ast.Store):
+        return [node.attr]
+    return []
+
+
+class LanguageTest(unittest.TestCase):
+    def test_files(self):
+        self.assertIn("__init__.py", [path.name for path in package_files()])
+        for path in package_files():
+            with self.subTest(path.name):
+                self.assertRegex(path.name, r"\A([a-z][a-z0-9_]*|__init__|__main__)\.py\Z")
+                self.assertNotIn(path.stem, vars(builtins))
+
+    def test_sizes_and_signs(self):
+        for path in package_files():
+            text = path.read_bytes().decode("utf-8")
+            for number, row in enumerate(text.split("\n"), start=1):
+                with self.subTest(f"{path.name}:{number}"):
+                    self.assertLessEqual(len(row), 120)
+                    self.assertTrue(all(" " <= sign <= "~" for sign in row))
+                    self.assertIsNone(WORDS_OUT.search(row))
+            with self.subTest(path.name):
+                self.assertLessEqual(len(text.split("\n")), 401)
+        for place, node in nodes():
+            if isinstance(node, ast.FunctionDef):
+                with self.subTest(place):
+                    self.assertLessEqual(node.end_lineno - node.lineno + 1, 40)
+
+    def test_imports(self):
+        for path, tree in trees():
+            for node in ast.walk(tree):
+                with self.subTest(f"{path.name}:{getattr(node, 'lineno', 0)}"):
+                    if isinstance(node, ast.Import):
+                        self.assertEqual((path.name, [name.name for name in node.names]), ("__main__.py", ["sys"]))
+                    if isinstance(node, ast.ImportFrom):
+                        self.assertIn(node, tree.body)
+                        self.assertRegex(node.module, r"\A(trussyard\.[a-z0-9_]+|__future__)\Z")
+                        self.assertEqual(node.level, 0)
+                        self.assertNotIn("*", [name.name for name in node.names])
+
+    def test_forms(self):
+        for place, node in nodes():
+            with self.subTest(place):
+                self.assertIn(node.__class__.__name__, FORMS)
+                if isinstance(node, ast.Constant):
+                    self.assertIsInstance(node.value, (int, str, type(None)))
+                if isinstance(node, ast.Assign):
+                    self.assertEqual(len(node.targets), 1)
+                if isinstance(node, ast.ListComp):
+                    self.assertEqual(len(node.generators), 1)
+                    self.assertLessEqual(len(node.generators[0].ifs), 1)
+                if isinstance(node, (ast.While, ast.For)):
+                    self.assertEqual(node.orelse, [])
+                if isinstance(node, ast.Try):
+                    self.assertEqual(node.finalbody, [])
+                if isinstance(node, (ast.FunctionDef, ast.ClassDef)):
+                    self.assertEqual(node.decorator_list, [])
+                if isinstance(node, ast.arguments):
+                    self.assertEqual((node.vararg, node.kwarg, node.kwonlyargs), (None, None, []))
+
+    def test_tops(self):
+        allowed = (ast.Import, ast.ImportFrom, ast.FunctionDef, ast.ClassDef, ast.Assign)
+        for path, tree in trees():
+            with self.subTest(path.name):
+                self.assertIsNotNone(ast.get_docstring(tree))
+                if path.name != "__main__.py":
+                    self.assertTrue(all(isinstance(node, allowed) for node in tree.body[1:]))
+
+    def test_names(self):
+        python_s = set(vars(builtins))
+        for place, node in nodes():
+            with self.subTest(place):
+                for name in bound_names(node):
+                    if name not in TWO_UNDERSCORES:
+                        self.assertRegex(name, r"\A" + PLAIN_NAME.pattern + r"\Z")
+                        self.assertFalse(name in python_s and not isinstance(node, (ast.Attribute, ast.FunctionDef)))
+                if isinstance(node, ast.Name) and node.id in python_s and not place.startswith("__main__"):
+                    self.assertIn(node.id, OWN_NAMES)
+
+    def test_methods(self):
+        known = OWN_METHODS | own_methods() | TWO_UNDERSCORES
+        for place, node in nodes():
+            if isinstance(node, ast.Call) and isinstance(node.func, ast.Attribute):
+                if not place.startswith("__main__"):
+                    with self.subTest(place):
+                        self.assertIn(node.func.attr, known)
+
+    def test_no_name_is_a_method_and_a_value(self):
+        values = {node.attr for place, node in nodes()
+                  if isinstance(node, ast.Attribute) and isinstance(node.ctx, ast.Store)}
+        self.assertEqual(values & own_methods(), set())
+
+
+if __name__ == "__main__":
+    unittest.main()

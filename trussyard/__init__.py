@@ -1,0 +1,1 @@
+"""Trussyard: frames of bars at rest or moving, told exactly."""
