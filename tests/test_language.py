@@ -71,6 +71,47 @@ def bound_names(node):
     return []
 
 
+def top_names(tree):
+    """The names that the rows of a file's top bind, imports aside."""
+    names = []
+    for node in tree.body:
+        if isinstance(node, (ast.FunctionDef, ast.ClassDef)):
+            names.append(node.name)
+        elif isinstance(node, ast.Assign):
+            names.extend(target.id for target in node.targets if isinstance(target, ast.Name))
+    return names
+
+
+def imported(tree):
+    """Rows (module, name) of all that a file draws from the package."""
+    return [(node.module, name.name) for node in tree.body if isinstance(node, ast.ImportFrom)
+            for name in node.names if node.module != "__future__"]
+
+
+def is_plain(value, functions):
+    """L3: a plain value, or a list, tuple or dict of plain values and functions; L15: not one within another."""
+    if isinstance(value, ast.UnaryOp):
+        return isinstance(value.op, ast.USub) and isinstance(value.operand, ast.Constant)
+    if isinstance(value, ast.Tuple):
+        return all(is_plain(one, functions) for one in value.elts)
+    if isinstance(value, ast.Name):
+        return value.id in functions
+    return isinstance(value, ast.Constant)
+
+
+def is_walked(node, above):
+    """L23: what stands here is walked on the spot."""
+    if isinstance(above, (ast.For, ast.comprehension)):
+        return above.iter is node
+    if not isinstance(above, ast.Call) or not above.args or above.args[0] is not node:
+        return False
+    if isinstance(above.func, ast.Attribute):
+        return above.func.attr == "join" and isinstance(above.func.value, ast.Constant)
+    if above.func.id in ("min", "max"):
+        return len(above.args) == 1
+    return above.func.id in ("list", "tuple", "dict", "sorted", "sum", "any", "all", "enumerate", "zip")
+
+
 class LanguageTest(unittest.TestCase):
     def test_files(self):
         self.assertIn("__init__.py", [path.name for path in package_files()])
@@ -152,6 +193,69 @@ class LanguageTest(unittest.TestCase):
                 if not place.startswith("__main__"):
                     with self.subTest(place):
                         self.assertIn(node.func.attr, known)
+
+    def test_values_of_the_top(self):
+        for path, tree in trees():
+            functions = {node.name for node in tree.body if isinstance(node, ast.FunctionDef)}
+            for node in tree.body:
+                if isinstance(node, ast.Assign):
+                    parts = [node.value]
+                    if isinstance(node.value, ast.List):
+                        parts = node.value.elts
+                    if isinstance(node.value, ast.Dict):
+                        parts = node.value.keys + node.value.values
+                    with self.subTest(f"{path.name}:{node.lineno}"):
+                        self.assertTrue(all(is_plain(part, functions) for part in parts))
+
+    def test_names_once(self):
+        for path, tree in trees():
+            drawn = [name for module, name in imported(tree)]
+            names = drawn + top_names(tree)
+            classes = [node.name for node in tree.body if isinstance(node, ast.ClassDef)]
+            with self.subTest(path.name):
+                self.assertEqual(len(names), len(set(names)))
+            for node in ast.walk(tree):
+                if isinstance(node, (ast.Name, ast.arg)):
+                    with self.subTest(f"{path.name}:{node.lineno}"):
+                        self.assertEqual(set(bound_names(node)) & set(drawn + classes), set())
+
+    def test_names_are_drawn_from_where_they_are_defined(self):
+        defined = {f"trussyard.{path.stem}": top_names(tree) for path, tree in trees()}
+        for path, tree in trees():
+            for module, name in imported(tree):
+                with self.subTest(path.name, name=name):
+                    self.assertIn(name, defined[module])
+
+    def test_every_import_is_used(self):
+        for path, tree in trees():
+            used = {node.id for node in ast.walk(tree) if isinstance(node, ast.Name)}
+            for module, name in imported(tree):
+                with self.subTest(path.name, name=name):
+                    self.assertIn(name, used)
+
+    def test_no_files_draw_from_one_another(self):
+        draws = {f"trussyard.{path.stem}": {module for module, name in imported(tree)} for path, tree in trees()}
+        while draws:
+            bare = [module for module in draws if not draws[module] & set(draws)]
+            self.assertNotEqual(bare, [], f"these draw from one another: {sorted(draws)}")
+            draws = {module: below for module, below in draws.items() if module not in bare}
+
+    def test_is(self):
+        for place, node in nodes():
+            if isinstance(node, ast.Compare) and any(isinstance(sign, (ast.Is, ast.IsNot)) for sign in node.ops):
+                with self.subTest(place):
+                    self.assertTrue(any(isinstance(one, ast.Constant) and one.value in (None, True, False)
+                                        for one in [node.left] + node.comparators))
+
+    def test_walked_at_once(self):
+        for path, tree in trees():
+            for above in ast.walk(tree):
+                for node in ast.iter_child_nodes(above):
+                    if isinstance(node, ast.Call):
+                        name = node.func.attr if isinstance(node.func, ast.Attribute) else node.func.id
+                        if name in ("zip", "enumerate", "reversed", "range", "items", "keys", "values"):
+                            with self.subTest(f"{path.name}:{node.lineno}"):
+                                self.assertTrue(is_walked(node, above))
 
     def test_no_name_is_a_method_and_a_value(self):
         values = {node.attr for place, node in nodes()

@@ -2,6 +2,9 @@
 
 from trussyard.errors import NoNumber
 
+NOUGHT = (0, 1)
+ONE = (1, 1)
+
 
 def ratio_of(top, bottom=1):
     """The number that is top by bottom."""
