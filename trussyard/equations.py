@@ -69,3 +69,8 @@ def motion_from(F, numbers):
     for at, pin in enumerate(F.pins()):
         motion[pin] = (numbers[2 * at], numbers[2 * at + 1])
     return motion
+
+
+def signs_turned(numbers):
+    """The numbers, each with its sign turned."""
+    return [(-number[0], number[1]) for number in numbers]
