@@ -3,8 +3,9 @@
 import random
 import unittest
 
-from trussyard.equations import (bar_row, draw_rows, load_row, motion_from, pair_row, pairs_of, pulls_and_pushes)
-from trussyard.errors import NoPin
+from trussyard.equations import (bar_row, check_bars, draw_rows, load_row, motion_from, pair_row, pairs_of,
+                                 pulls_and_pushes)
+from trussyard.errors import NoBar, NoPin
 from yards import (Checks, HALF, NOUGHT, ONE, forces_due, fraction, frame_of, frames, lengthenings_due, numbers, pair,
                    slips_due, small_number, triangle, whole)
 
@@ -61,6 +62,12 @@ class EquationsTest(Checks, unittest.TestCase):
         load = {"c": pair(1, 2), "z": pair(0, 0), "ab": pair(1, 1)}
         self.assert_refused(NoPin, {"pin": "z"}, load_row, F, load)
         self.assertEqual(list(load), ["c", "z", "ab"])
+
+    def test_check_bars(self):
+        F = triangle()
+        for told in ({}, {"ca": ONE}, {"bc": ONE, "ab": NOUGHT}):
+            self.assertIsNone(check_bars(F, told))
+        self.assert_refused(NoBar, {"bar": "z"}, check_bars, F, {"ca": ONE, "z": ONE, "a": ONE})
 
     def test_lists_told_are_new(self):
         F = triangle()

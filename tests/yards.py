@@ -215,6 +215,43 @@ def random_forces(rng, F, make=small_number):
     return {bar: make(rng) for bar in bars}, {pin: [make(rng) for way in F.ways(pin)] for pin in pins}
 
 
+def borne_load(rng, F, make=small_number):
+    """A load that random forces bear, pins in any order."""
+    forces = forces_due(F, *random_forces(rng, F, make))
+    return {pin: pair(*[-part for part in forces[pin]]) for pin in rng.sample(F.pins(), len(F.pins()))}
+
+
+def grip_number(rng):
+    """A number above 0: of nine figures, 1 by as many, or near 1."""
+    nine = rng.randint(10 ** 8, 10 ** 9 - 1)
+    return rng.choice([(nine, 1), (1, nine), number(Fraction(rng.randint(1, 9), rng.randint(1, 9)))])
+
+
+def random_grips(rng, F, make=grip_number):
+    """Grips that may leave out bars, in any order."""
+    return {bar: make(rng) for bar in rng.sample(F.bars(), rng.randint(0, len(F.bars())))}
+
+
+def random_bounds(rng, F, make=grip_number):
+    """Bounds of all bars, in any order, some of them nought."""
+    bounds = {}
+    for bar in rng.sample(F.bars(), len(F.bars())):
+        low, high = [NOUGHT if rng.random() < 0.2 else make(rng) for bound in (0, 1)]
+        bounds[bar] = ((-low[0], low[1]), high)
+    return bounds
+
+
+def times(factor, load):
+    """A load, a factor times."""
+    return {pin: pair(*[factor * part for part in fractions(two)]) for pin, two in load.items()}
+
+
+def both_loads(one, other):
+    """Two loads at once."""
+    pins = list(one) + [pin for pin in other if pin not in one]
+    return {pin: pair(*[here + there for here, there in zip(move_at(one, pin), move_at(other, pin))]) for pin in pins}
+
+
 # The document's sums, in fractions
 
 def arm(F, bar):
@@ -261,6 +298,18 @@ def work_due(load, motion):
     """Point 11: a fraction."""
     return sum((fraction(part) * part_of_move for pin in load
                 for part, part_of_move in zip(load[pin], move_at(motion, pin))), Fraction(0))
+
+
+def stored_due(F, grips, pulls):
+    """Point 22: a fraction."""
+    return sum((fraction(pulls.get(bar, NOUGHT)) ** 2 / fraction(grips.get(bar, ONE)) / 2 for bar in F.bars()),
+               Fraction(0))
+
+
+def price_due(F, bounds, motion):
+    """Point 26: a fraction."""
+    return sum((longer * fraction(bounds[bar][1] if longer > 0 else bounds[bar][0])
+                for bar, longer in lengthenings_due(F, motion).items()), Fraction(0))
 
 
 # What a told thing must be

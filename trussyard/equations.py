@@ -5,7 +5,7 @@ or a pull of 1. So rows mixed by pushes and pulls are the forces, and a motion's
 or the bar's lengthening with its sign turned.
 """
 
-from trussyard.errors import NoPin
+from trussyard.errors import NoBar, NoPin
 from trussyard.moves import NO_MOVE, arm_between
 
 
@@ -32,6 +32,14 @@ def load_row(F, load):
         if pin not in pins:
             raise NoPin(pin)
     return pair_row(F, load)
+
+
+def check_bars(F, told):
+    """Refuses a dict with a name that is no bar's."""
+    bars = F.bars()
+    for bar in told:
+        if bar not in bars:
+            raise NoBar(bar)
 
 
 def bar_row(F, one, other):
