@@ -312,6 +312,28 @@ def price_due(F, bounds, motion):
                 for bar, longer in lengthenings_due(F, motion).items()), Fraction(0))
 
 
+# A desk's answers, read back
+
+def words_of(text):
+    return text.split(" ") if text else []
+
+
+def read_pulls(text):
+    return {bar: number(Fraction(pull)) for bar, pull in [word.split("=") for word in words_of(text)]}
+
+
+def read_motion(text):
+    return {pin: tuple(number(Fraction(part)) for part in two.split(","))
+            for pin, two in [word.split("=") for word in words_of(text)]}
+
+
+def read_pushes(F, text):
+    """All pins, those without ways among them."""
+    told = {pin: [number(Fraction(part)) for part in some.split(",")]
+            for pin, some in [word.split(":") for word in words_of(text)]}
+    return {pin: told.get(pin, []) for pin in F.pins()}
+
+
 # What a told thing must be
 
 class Checks:

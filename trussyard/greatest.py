@@ -42,10 +42,15 @@ def all_bounds(F, bounds):
     check_bars(F, bounds)
     lows_and_highs = []
     for bar in F.bars():
-        if bar not in bounds or bounds[bar][0][0] > 0 or bounds[bar][1][0] < 0:
+        if bar not in bounds or not has_nought(bounds[bar]):
             raise NoBound(bar)
         lows_and_highs.append(bounds[bar])
     return lows_and_highs
+
+
+def has_nought(two):
+    """True where nought is within these bounds."""
+    return two[0][0] <= 0 <= two[1][0]
 
 
 def most_borne(states, ways, lows_and_highs):
