@@ -31,6 +31,9 @@ append clear copy count endswith extend find get index insert isalnum isalpha is
 keys ljust lower lstrip partition pop remove replace reverse rfind rjust rpartition rsplit rstrip setdefault split
 splitlines startswith strip update upper values zfill bit_length
 """.split())
+CHANGING = set("append clear extend insert pop remove reverse setdefault update".split())
+# L26.
+VALUES_LIKE_METHODS = set("count index title find get join lower upper split strip copy add".split())
 TWO_UNDERSCORES = {"__init__", "__eq__", "__repr__", "__str__", "__len__"}
 # L17.
 WORDS_OUT = re.compile(
@@ -97,6 +100,21 @@ def is_plain(value, functions):
     if isinstance(value, ast.Name):
         return value.id in functions
     return isinstance(value, ast.Constant)
+
+
+def own_values():
+    return {node.attr for place, node in nodes() if isinstance(node, ast.Attribute) and isinstance(node.ctx, ast.Store)}
+
+
+def changed_in(loop):
+    """The texts of all that a loop changes: by an index, or by a method that changes."""
+    texts = []
+    for node in ast.walk(loop):
+        if isinstance(node, ast.Subscript) and isinstance(node.ctx, ast.Store):
+            texts.append(ast.unparse(node.value))
+        if isinstance(node, ast.Call) and isinstance(node.func, ast.Attribute) and node.func.attr in CHANGING:
+            texts.append(ast.unparse(node.func.value))
+    return texts
 
 
 def is_walked(node, above):
@@ -258,9 +276,38 @@ class LanguageTest(unittest.TestCase):
                                 self.assertTrue(is_walked(node, above))
 
     def test_no_name_is_a_method_and_a_value(self):
-        values = {node.attr for place, node in nodes()
-                  if isinstance(node, ast.Attribute) and isinstance(node.ctx, ast.Store)}
-        self.assertEqual(values & own_methods(), set())
+        self.assertEqual(own_values() & own_methods(), set())
+
+    def test_methods_and_values_are_not_called_like_python_s(self):
+        python_s = {name for kind in (str, int, list, tuple, dict, set, frozenset, bytes) for name in dir(kind)}
+        self.assertEqual(own_methods() & python_s - OWN_METHODS - TWO_UNDERSCORES - {"add", "discard"}, set())
+        self.assertEqual(own_values() & python_s - VALUES_LIKE_METHODS, set())
+
+    def test_numbers_and_texts(self):
+        for place, node in nodes():
+            with self.subTest(place):
+                if isinstance(node, ast.Constant) and isinstance(node.value, str):
+                    self.assertNotIn("%", node.value)
+                if isinstance(node, ast.BinOp) and isinstance(node.op, ast.Pow):
+                    self.assertIsInstance(node.right, ast.Constant)
+                    self.assertLessEqual(node.right.value, 64)
+
+    def test_handlers(self):
+        """Python's own errors that are not to be taken; the program's own may be."""
+        for place, node in nodes():
+            if isinstance(node, ast.ExceptHandler):
+                with self.subTest(place):
+                    names = {part.id for part in ast.walk(node.type) if isinstance(part, ast.Name)}
+                    self.assertEqual(names & {"Exception", "TypeError"}, set())
+
+    def test_what_is_walked_is_not_changed(self):
+        for place, node in nodes():
+            if isinstance(node, ast.For):
+                walked = node.iter
+                if isinstance(walked, ast.Call) and isinstance(walked.func, ast.Attribute) and not walked.args:
+                    walked = walked.func.value
+                with self.subTest(place):
+                    self.assertNotIn(ast.unparse(walked), changed_in(node))
 
 
 if __name__ == "__main__":
